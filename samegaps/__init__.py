@@ -1,0 +1,1 @@
+"""Samegaps: rows of marks told by their differences, exactly."""

@@ -1,0 +1,115 @@
+"""What several test files share: odd values, wrong rows, reckoning by other ways."""
+
+import random
+
+
+class Odd:
+    """A value of a class that the program knows nothing of."""
+
+
+def nested(depth):
+    """A tuple nested so deep."""
+    value = ()
+    for _ in range(depth):
+        value = (value,)
+    return value
+
+
+GREAT = 10 ** 399 + 7
+NOT_TUPLES = [None, True, False, 0, -3, GREAT, "", "0 1", b"ab", [], [(0, 1)], {}, {0: 1}, set(), {(0, 1)},
+              frozenset(), range(3), Odd(), Odd, len, 2j, Ellipsis]
+NOT_WHOLE = [None, True, False, "", "1", b"1", (), (1,), [1], {}, set(), Odd(), int, 2j, nested(20)]
+# Pairs of what is no ROW and the index that is told.
+WRONG_ROWS = [(value, None) for value in NOT_TUPLES] + [
+    (tuple((p, 1) for p in range(401)), None),
+    (tuple((0, 0) for p in range(401)), None),
+    (((0, True),), 0), (((True, 1),), 0), (((0, 0),), 0), (((0, 1, 2),), 0), (((0,),), 0), (([0, 1],), 0),
+    ((5,), 0), ((None,), 0), (("01",), 0), ((b"01",), 0), (((),), 0), (((0, None),), 0), (((None, 1),), 0),
+    ((("0", 1),), 0), (((0, "1"),), 0), (((0, 1), (0, 2)), 1), (((1, 1), (0, 1)), 1), (((0, 1), (2, 0)), 1),
+    (((0, 1), (2, False)), 1), (((0, 1), (1, 1), (1, 1), None), 2), (((0, 1), (5, 1), (3, 1), (3, 0)), 2),
+    (nested(20), 0), (((0, 1), nested(19)), 1), (((0, (1,)),), 0), (((0, 1), Odd()), 1),
+    (tuple((p, 1) for p in range(399)) + ((398, 1),), 399),
+]
+RULER = ((0, 1), (1, 1), (4, 1))
+MIXED = ((-1, 2), (3, -4))
+FOUR_HUNDRED = tuple((3 * p - 7, p + 1) for p in range(400))
+
+
+def wanted(test, error, call, **told):
+    """The call raises just this error, with these attributes, of the same values and kinds."""
+    try:
+        call()
+    except Exception as got:
+        test.assertIs(type(got), error)
+        test.assertEqual(set(vars(got)), set(told))
+        for name, value in told.items():
+            test.assertIs(type(getattr(got, name)), type(value))
+            if name == "given":
+                test.assertIs(getattr(got, name), value)
+            else:
+                test.assertEqual(getattr(got, name), value)
+        return
+    test.fail("nothing was raised")
+
+
+def refuses_wrong_rows(test, error, call):
+    """The call, of one argument, refuses all that is no ROW with the told index."""
+    for value, index in WRONG_ROWS:
+        wanted(test, error, lambda value=value: call(value), index=index)
+
+
+def refuses_not_whole(test, error, call):
+    """The call, of one argument, refuses all that is no whole number."""
+    for value in NOT_WHOLE:
+        wanted(test, error, lambda value=value: call(value), given=value)
+
+
+def times(one, other):
+    """The product, by a dict."""
+    told = {}
+    for place, weight in one:
+        for far, more in other:
+            told[place + far] = told.get(place + far, 0) + weight * more
+    return tuple(sorted((place, weight) for place, weight in told.items() if weight))
+
+
+def plus(one, other):
+    """The sum, by a dict."""
+    told = dict(one)
+    for place, weight in other:
+        told[place] = told.get(place, 0) + weight
+    return tuple(sorted((place, weight) for place, weight in told.items() if weight))
+
+
+def back(row):
+    """The row mirrored."""
+    return tuple(sorted((-place, weight) for place, weight in row))
+
+
+def all_times(rows):
+    """The product of all rows."""
+    total = ((0, 1),)
+    for row in rows:
+        total = times(total, row)
+    return total
+
+
+def by_number(row, number):
+    """The multiple."""
+    return tuple((place, weight * number) for place, weight in row if number)
+
+
+def along(row, shift, step=1):
+    """The row with each place times the step, then shifted."""
+    return tuple((place * step + shift, weight) for place, weight in row)
+
+
+def some_row(rng, pairs, spread, height):
+    """A row of up to so many pairs within the spread."""
+    places = sorted(rng.sample(range(spread + 1), min(pairs, spread + 1)))
+    return tuple((place, rng.choice((1, -1)) * rng.randint(1, height)) for place in places)
+
+
+def dice(seed):
+    """A source of numbers, the same in each run."""
+    return random.Random(seed)
