@@ -113,3 +113,37 @@ def some_row(rng, pairs, spread, height):
 def dice(seed):
     """A source of numbers, the same in each run."""
     return random.Random(seed)
+
+
+def square_roots(primes):
+    """The row of which the zeros are all sums of square roots of the primes, of either sign.
+
+    It is an atom, though it is parted into ones of spread 1 and 2 modulo each prime.
+    """
+    row = ((1, 1),)
+    for prime in primes:
+        # The row at x + s is EVEN + s ODD, s s being the prime; times the one at x - s.
+        even, odd = (), ()
+        for place, weight in row:
+            share = 1
+            for k in range(place + 1):
+                told = ((place - k, weight * share * prime ** (k // 2)),)
+                even, odd = (plus(even, told), odd) if k % 2 == 0 else (even, plus(odd, told))
+                share = share * (place - k) // (k + 1)
+        row = plus(times(even, even), by_number(times(odd, odd), -prime))
+    return row
+
+
+def moved_letter(row, number):
+    """The row with x + number for x."""
+    total, power, at = (), ((0, 1),), 0
+    for place, weight in row:
+        while at < place:
+            power, at = times(power, ((0, number), (1, 1)) if number else ((1, 1),)), at + 1
+        total = plus(total, by_number(power, weight))
+    return total
+
+
+def small_primes(most):
+    """The primes up to most."""
+    return [n for n in range(2, most + 1) if all(n % k for k in range(2, n) if k * k <= n)]
