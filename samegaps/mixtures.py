@@ -107,7 +107,6 @@ def mixed_lists(one, other):
     if len(one) < len(other):
         y, x, number = mixed_lists(other, one)
         return x, y, number
-    tops = content_list(one), content_list(other)
     long, short = bare_list(one), bare_list(other)
     y, number = walk_down(long, short)
     x = quotient_list(minus_list([number], times_list(y, short)), long)

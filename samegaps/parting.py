@@ -52,7 +52,7 @@ def best_prime(core):
     ends = 1 | (1 << (len(core) - 1))
     sums = (1 << len(core)) - 1
     prime, best, fewest, tried = 1, 0, len(core), 0
-    while tried < PRIMES_TRIED and sums != ends and fewest > FEW or tried == 0:
+    while tried == 0 or (tried < PRIMES_TRIED and sums != ends and fewest > FEW):
         prime = prime_after(prime)
         if does_serve(core, prime):
             tried += 1
