@@ -1,5 +1,6 @@
 """Lists of weights modulo a whole number: the lowest place first, the last weight not 0."""
 
+from samegaps.dense import times_list
 from samegaps.wholes import is_whole
 
 MOST_PRIME = 997
@@ -63,14 +64,7 @@ def minus(one, other, modulus):
 
 def times(one, other, modulus):
     """The product of both."""
-    if not one or not other:
-        return []
-    out = [0] * (len(one) + len(other) - 1)
-    for at, weight in enumerate(one):
-        if weight:
-            for far, more in enumerate(other, at):
-                out[far] += weight * more
-    return rests(out, modulus)
+    return rests(times_list(one, other), modulus)
 
 
 def parted_by(whole, part, modulus):

@@ -134,6 +134,10 @@ class CommonDivisors(unittest.TestCase):
             rising, higher = times(rising, ((0, k), (1, 1)) if k else ((1, 1),)), times(higher, ((0, k + 12), (1, 1)))
         self.assertEqual(common_divisor(rising, higher), ONE)
         self.assertEqual(common_divisor(times(rising, UP), times(higher, UP)), UP)
+        # The value of the former divides that of the latter at the point that is tried first.
+        far = 2 ** 42 + 1
+        self.assertEqual(common_divisor(UP, ((0, far), (2, 1))), ONE)
+        self.assertEqual(common_divisor(((0, far), (2, 1)), UP), ONE)
         twos = ((0, 2 ** 300), (1, 2 ** 150), (2, 1)), ((0, 2 ** 300), (1, 2 ** 151), (2, 1))
         self.assertEqual(common_divisor(*twos), ONE)
 
