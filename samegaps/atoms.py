@@ -126,10 +126,9 @@ def is_alike_both_ways(core):
     return root_of(mirror(core)) == core
 
 
-def pairs_of(row):
-    """The tuple of (ATOM, MIRROR, MANY, MORE): the atoms that are not alike both ways, with their mirrors."""
-    need_parts(row)
-    many = dict(atoms_in(row))
+def pairs_in(atoms):
+    """The tuple of (ATOM, MIRROR, MANY, MORE) of atoms, each so often, that are not alike both ways."""
+    many = dict(atoms)
     found = {}
     for atom in many:
         far = root_of(mirror(atom))
@@ -139,10 +138,21 @@ def pairs_of(row):
     return tuple(told)
 
 
+def middle_in(atoms):
+    """The tuple of (ATOM, MANY) of atoms, each so often, that are alike both ways."""
+    return tuple([(atom, often) for atom, often in atoms if root_of(mirror(atom)) == atom])
+
+
+def pairs_of(row):
+    """The tuple of (ATOM, MIRROR, MANY, MORE): the atoms that are not alike both ways, with their mirrors."""
+    need_parts(row)
+    return pairs_in(atoms_in(row))
+
+
 def middle_of(row):
     """The tuple of (ATOM, MANY): the atoms that are alike both ways."""
     need_parts(row)
-    return tuple([(atom, often) for atom, often in atoms_in(row) if root_of(mirror(atom)) == atom])
+    return middle_in(atoms_in(row))
 
 
 def ring_atom(number):

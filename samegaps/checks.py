@@ -23,19 +23,19 @@ def first_wrong(values):
     return None
 
 
-def is_row_of_told_size(value):
-    """True for a tuple that is short enough for a ROW."""
+def is_tuple_of_told_size(value):
+    """True for a tuple that is short enough for a ROW, or a POINT ROW."""
     return isinstance(value, tuple) and len(value) <= MOST_PAIRS
 
 
 def makes_row(value):
     """True for a ROW, whatever the value is."""
-    return is_row_of_told_size(value) and first_wrong(value) is None
+    return is_tuple_of_told_size(value) and first_wrong(value) is None
 
 
 def need_row(value):
     """Refuses what is no ROW."""
-    if not is_row_of_told_size(value):
+    if not is_tuple_of_told_size(value):
         raise InvalidRow(None)
     at = first_wrong(value)
     if at is not None:

@@ -4,7 +4,7 @@ from samegaps.checks import LONGEST, makes_core, need_core, need_row, need_short
 from samegaps.dense import row_from, weights_of
 from samegaps.division import quotient_of
 from samegaps.errors import InvalidNumber, InvalidRows, TooLong
-from samegaps.pairs import bare_of, content_of, moved, multiple_of, product_of, spread_of
+from samegaps.pairs import bare_of, content_of, moved, multiple_of, power_of, product_of, spread_of
 from samegaps.parting import all_atoms, layers_of
 from samegaps.wholes import is_whole
 
@@ -82,8 +82,7 @@ def put_together(sign, content, place, atoms):
         raise TooLong()
     total = ((0, 1),)
     for atom, often in atoms:
-        for _ in range(often):
-            total = product_of(total, atom)
+        total = product_of(total, power_of(atom, often))
     return moved(multiple_of(total, sign * content), place)
 
 

@@ -26,6 +26,14 @@ def product_of(row, other):
     return row_of(weights)
 
 
+def power_of(row, times):
+    """The row, times times by itself, for times from 0 on."""
+    total = ((0, 1),)
+    for _ in range(times):
+        total = product_of(total, row)
+    return total
+
+
 def multiple_of(row, number):
     """The row with all its weights times the number."""
     if number == 0:

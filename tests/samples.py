@@ -147,3 +147,61 @@ def moved_letter(row, number):
 def small_primes(most):
     """The primes up to most."""
     return [n for n in range(2, most + 1) if all(n % k for k in range(2, n) if k * k <= n)]
+
+
+# Pairs of what is no POINT ROW and the index that is told.
+WRONG_POINTS = [(value, None) for value in NOT_TUPLES] + [
+    (tuple(((p, 0), 1) for p in range(401)), None), (tuple(((0, 0), 0) for p in range(401)), None),
+    (((0, 1),), 0), ((((0,), 1),), 0), ((((0, 0, 0, 0), 1),), 0), (((0, 0), 1), 0), ((((0, 0), 0),), 0),
+    ((((0, 0), True),), 0), ((((0, False), 1),), 0), ((((True, 0, 0), 1),), 0), ((((0, 0), None),), 0),
+    ((((0, 0), (1,)),), 0), ((([0, 0], 1),), 0), (([(0, 0), 1],), 0), ((("00", 1),), 0), (((b"00", 1),), 0),
+    ((((0, "0"), 1),), 0), ((((0, (0,)), 1),), 0), ((((0, 0), 1, 1),), 0), ((((0, 0),),), 0), (((),), 0),
+    (((None, 1),), 0), ((Odd(),), 0), ((5,), 0), (((((0, 0), 1), 1),), 0), ((((), 1),), 0), (nested(20), 0),
+    ((((0, 0), 1), ((0, 0), 1)), 1), ((((0, 1), 1), ((0, 0), 1)), 1), ((((1, 0), 1), ((0, 9), 1)), 1),
+    ((((0, 0), 1), ((0, 0, 1), 1)), 1), ((((0, 0, 0), 1), ((1, 0), 1)), 1), ((((0, 0), 1), ((0, 1), 0)), 1),
+    ((((0, 0), 1), ((0, 1), 1), ((0, 1), 2), None), 2), ((((0, 0), 1), ((0, 5), 1), ((0, 3), 0)), 2),
+    ((((0, 0), 1), nested(19)), 1), ((((0, 0), 1), Odd()), 1), ((((0, 0), 1), (1, 1)), 1),
+    (tuple(((0, p), 1) for p in range(399)) + (((0, 398), 1),), 399),
+]
+CORNER = (((0, 0), 1), ((0, 1), 1), ((1, 0), 1))
+HOOK = (((0, 0), 1), ((2, 0), 1), ((3, 1), 1))
+
+
+def refuses_wrong_points(test, error, call):
+    """The call, of one argument, refuses all that is no POINT ROW with the told index."""
+    for value, index in WRONG_POINTS:
+        wanted(test, error, lambda value=value: call(value), index=index)
+
+
+def points_from(told):
+    """The point row of a dict, what is 0 left out."""
+    return tuple(sorted((point, weight) for point, weight in told.items() if weight))
+
+
+def times_points(one, other):
+    """The product, by a dict."""
+    told = {}
+    for point, weight in one:
+        for far, more in other:
+            at = tuple(a + b for a, b in zip(point, far))
+            told[at] = told.get(at, 0) + weight * more
+    return points_from(told)
+
+
+def back_points(points):
+    """The point row mirrored."""
+    return points_from({tuple(-a for a in point): weight for point, weight in points})
+
+
+def along_points(points, shift):
+    """The point row with the shift added to each POINT."""
+    return points_from({tuple(a + b for a, b in zip(point, shift)): weight for point, weight in points})
+
+
+def some_points(rng, letters, pairs, spread, height):
+    """A point row of up to so many pairs within the spread."""
+    told = {}
+    for _ in range(pairs):
+        point = tuple(rng.randint(0, spread) for _ in range(letters))
+        told[point] = rng.choice((1, -1)) * rng.randint(1, height)
+    return points_from(told)

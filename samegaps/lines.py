@@ -1,0 +1,73 @@
+"""Lines of point rows, and the way back: from heaps on a line to all point heaps with the same differences."""
+
+from samegaps.checks import need_row
+from samegaps.errors import InvalidWhole, NotNow, TooMany
+from samegaps.pairs import row_of
+from samegaps.pointchecks import makes_point_heap, need_points, need_step
+from samegaps.pointpairs import letters_of, widest_of
+from samegaps.trees import MOST_MARKS, heaps_of, lengths_of
+from samegaps.wholes import is_whole
+
+
+def place_of(point, step):
+    """The place of a POINT on the line."""
+    place = 0
+    for letter in point:
+        place = place * step + letter
+    return place
+
+
+def on_line(points, step):
+    """The line of a POINT ROW; where places meet the weights are added."""
+    weights = {}
+    for point, weight in points:
+        place = place_of(point, step)
+        weights[place] = weights.get(place, 0) + weight
+    return row_of(weights)
+
+
+def point_at(place, step, letters):
+    """The POINT with this place, each letter but the first one near 0."""
+    behind = []
+    left = place
+    for _ in range(letters - 1):
+        letter = (left + step // 2) % step - step // 2
+        left = (left - letter) // step
+        behind.append(letter)
+    return (left, *behind[::-1])
+
+
+def off_line(row, step, letters):
+    """The POINT ROW of which the row is the line."""
+    return tuple([(point_at(place, step, letters), weight) for place, weight in row])
+
+
+def line_of(points, step):
+    """The line of the POINT ROW for the step."""
+    need_points(points)
+    need_step(step)
+    return on_line(points, step)
+
+
+def back_of(row, step, letters):
+    """The POINT ROW of which the rooted ROW is the line, its letters but the first one near 0."""
+    need_row(row)
+    need_step(step)
+    if not is_whole(letters) or letters not in (2, 3):
+        raise InvalidWhole(letters)
+    if row and row[0][0] != 0:
+        raise NotNow()
+    return off_line(row, step, letters)
+
+
+def all_points(points):
+    """All rooted point heaps with the differences of the point heap, ascending."""
+    need_points(points)
+    if points == () or not makes_point_heap(points):
+        raise NotNow()
+    if sum([weight for _, weight in points]) > MOST_MARKS:
+        raise TooMany()
+    # Above three times the spread no two of the sums that matter meet on the line ([E2]).
+    step = 3 * widest_of(points) + 1
+    heaps = heaps_of(lengths_of(on_line(points, step)))
+    return tuple(sorted([off_line(heap, step, letters_of(points)) for heap in heaps]))
