@@ -85,7 +85,7 @@ def value_of(weights, point):
 
 
 def read_back(number, point):
-    """The list with this value, above 0, at the point that has no weight above half the point."""
+    """The list with this value at the point of which no weight, without its sign, is above half the point."""
     out = []
     left = number
     while left:

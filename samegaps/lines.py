@@ -2,44 +2,10 @@
 
 from samegaps.checks import need_row
 from samegaps.errors import InvalidWhole, NotNow, TooMany
-from samegaps.pairs import row_of
 from samegaps.pointchecks import makes_point_heap, need_points, need_step
-from samegaps.pointpairs import letters_of, widest_of
+from samegaps.pointpairs import letters_of, off_line, on_line, widest_of
 from samegaps.trees import MOST_MARKS, heaps_of, lengths_of
 from samegaps.wholes import is_whole
-
-
-def place_of(point, step):
-    """The place of a POINT on the line."""
-    place = 0
-    for letter in point:
-        place = place * step + letter
-    return place
-
-
-def on_line(points, step):
-    """The line of a POINT ROW; where places meet the weights are added."""
-    weights = {}
-    for point, weight in points:
-        place = place_of(point, step)
-        weights[place] = weights.get(place, 0) + weight
-    return row_of(weights)
-
-
-def point_at(place, step, letters):
-    """The POINT with this place, each letter but the first one near 0."""
-    behind = []
-    left = place
-    for _ in range(letters - 1):
-        letter = (left + step // 2) % step - step // 2
-        left = (left - letter) // step
-        behind.append(letter)
-    return (left, *behind[::-1])
-
-
-def off_line(row, step, letters):
-    """The POINT ROW of which the row is the line."""
-    return tuple([(point_at(place, step, letters), weight) for place, weight in row])
 
 
 def line_of(points, step):

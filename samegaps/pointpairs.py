@@ -70,3 +70,36 @@ def spreads_of(points):
 def widest_of(points):
     """The greatest difference of two POINTs at one letter, 0 for ()."""
     return max([0, *spreads_of(points)])
+
+
+def place_of(point, step):
+    """The place of a POINT on the line for the step."""
+    place = 0
+    for letter in point:
+        place = place * step + letter
+    return place
+
+
+def on_line(points, step):
+    """The line of a POINT ROW; where places meet the weights are added."""
+    weights = {}
+    for point, weight in points:
+        place = place_of(point, step)
+        weights[place] = weights.get(place, 0) + weight
+    return row_of(weights)
+
+
+def point_at(place, step, letters):
+    """The POINT with this place, each letter but the first one near 0."""
+    behind = []
+    left = place
+    for _ in range(letters - 1):
+        letter = (left + step // 2) % step - step // 2
+        left = (left - letter) // step
+        behind.append(letter)
+    return (left, *behind[::-1])
+
+
+def off_line(row, step, letters):
+    """The POINT ROW of which the row is the line."""
+    return tuple([(point_at(place, step, letters), weight) for place, weight in row])

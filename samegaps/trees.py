@@ -34,11 +34,6 @@ def first_wrong_length(values):
     return None
 
 
-def makes_lengths(value):
-    """Whether the value, whatever it is, are LENGTHS."""
-    return isinstance(value, tuple) and first_wrong_length(value) is None and is_let_number(len(value))
-
-
 def need_lengths(lengths):
     """Refuses what are no LENGTHS."""
     if not isinstance(lengths, tuple):

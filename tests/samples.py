@@ -205,3 +205,26 @@ def some_points(rng, letters, pairs, spread, height):
         point = tuple(rng.randint(0, spread) for _ in range(letters))
         told[point] = rng.choice((1, -1)) * rng.randint(1, height)
     return points_from(told)
+
+
+# Pairs of what is no lot of a ring of eight places and the index that is told.
+WRONG_LOTS = [(value, None) for value in NOT_TUPLES] + [
+    ((None,), 0), ((True,), 0), ((False,), 0), ((-1,), 0), ((8,), 0), ((GREAT,), 0), (("0",), 0), ((b"0",), 0),
+    (((0,),), 0), (([0],), 0), ((Odd(),), 0), ((2j,), 0), (nested(20), 0), ((0, 0), 1), ((1, 0), 1), ((0, True), 1),
+    ((0, 8), 1), ((2, 5, 5, None), 2), ((2, 5, 4, -1), 2), ((0, 1, 2, 3, 4, 5, 6, 7, 8), 8),
+    ((0, 1, 2, 3, 4, 5, 6, 7, 7), 8), ((7, 8), 1), ((0, nested(19)), 1), ((-GREAT, 0), 0),
+]
+# What is no number of places from 1 to 60.
+NO_RINGS = NOT_WHOLE + [0, -1, 61, GREAT, -GREAT]
+
+
+def refuses_wrong_lots(test, error, call):
+    """The call, of one argument, refuses all that is no lot of a ring of eight places with the told index."""
+    for value, index in WRONG_LOTS:
+        wanted(test, error, lambda value=value: call(value), index=index)
+
+
+def apart_round(n, lot):
+    """The differences round, each pair of places by itself."""
+    told = [(a - b) % n for a in lot for b in lot]
+    return tuple(told.count(d) for d in range(n))
