@@ -2,7 +2,7 @@
 
 from samegaps.checks import need_row
 from samegaps.errors import InvalidWhole, NotNow, TooMany
-from samegaps.pointchecks import makes_point_heap, need_points, need_step
+from samegaps.pointchecks import is_some_point_heap, need_points, need_step
 from samegaps.pointpairs import letters_of, off_line, on_line, widest_of
 from samegaps.trees import MOST_MARKS, heaps_of, lengths_of
 from samegaps.wholes import is_whole
@@ -29,7 +29,7 @@ def back_of(row, step, letters):
 def all_points(points):
     """All rooted point heaps with the differences of the point heap, ascending."""
     need_points(points)
-    if points == () or not makes_point_heap(points):
+    if not is_some_point_heap(points):
         raise NotNow()
     if sum([weight for _, weight in points]) > MOST_MARKS:
         raise TooMany()

@@ -38,9 +38,9 @@ def makes_points(value):
     return is_tuple_of_told_size(value) and first_wrong_point(value) is None
 
 
-def makes_point_heap(value):
-    """Whether the value, whatever it is, is a point heap."""
-    return makes_points(value) and all([weight > 0 for _, weight in value])
+def is_some_point_heap(points):
+    """Whether a POINT ROW is a point heap other than ()."""
+    return points != () and all([weight > 0 for _, weight in points])
 
 
 def need_points(points):

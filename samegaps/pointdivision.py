@@ -5,7 +5,7 @@ from math import gcd, isqrt
 from samegaps.dense import read_back
 from samegaps.division import common_of, quotient_of
 from samegaps.pairs import content_of, multiple_of, over_number, row_of
-from samegaps.pointpairs import letters_of, noughts, off_line, on_line, point_back, point_sum, points_moved
+from samegaps.pointpairs import letters_of, off_line, on_line, point_back, point_sum, points_moved
 from samegaps.pointpairs import points_root, points_times, spreads_of, widest_of
 from samegaps.wholes import power
 
@@ -82,21 +82,20 @@ def number_beyond(points):
 
 
 def is_shared(part, points, other):
-    """Whether a point row divides both, as it stands, with letters from 0 on."""
-    if corner_of(part) != noughts(letters_of(part)):
-        return False
+    """Whether a point row divides both."""
     return point_quotient(points, part) is not None and point_quotient(other, part) is not None
 
 
 def shared_at_corner(one, other):
     """The greatest common divisor of two point rows, not (), with 0 as the least of each letter.
 
-    It is read off the one of their values at a number for the last letter, which has a letter less.
-    What is read so, made bare, and divides both is the greatest bare one: a further factor has a
-    value that divides the content of what was read, a number up to half the number; as its weights
-    are below half of it, it is told by this value: it is a number itself. For great numbers the
-    values have, but for this divisor, only what divides one fixed number in common, but for
-    finitely many; so the search ends.
+    It is read off that of their values at a number for the last letter, which have a letter less.
+    If what is read so, made bare, divides both, it is the greatest bare one: the value of a further
+    factor divides the content of what was read (without powers of the number, as the values at 0
+    have no such divisor), so it is a whole number, up to half the number; and the factor, of which
+    all weights are below that, is told by its value: it is a whole number, too. For all numbers but
+    finitely many the values have, but for this divisor, only what divides one fixed number in
+    common; so the search ends.
     """
     if letters_of(one) == 1:
         return of_one_letter(one, other)

@@ -2,7 +2,7 @@
 
 from samegaps.checks import need_some
 from samegaps.errors import NotNow, TooWide
-from samegaps.pointchecks import makes_point_heap, need_two_points
+from samegaps.pointchecks import is_some_point_heap, need_two_points
 from samegaps.pointdivision import common_of_points, point_quotient
 from samegaps.pointpairs import letters_of, point_gaps, widest_of
 
@@ -34,11 +34,6 @@ def divided_points(points, other):
     need_some(other)
     need_narrow_points(points, other)
     return point_quotient(points, other)
-
-
-def is_some_point_heap(points):
-    """Whether the POINT ROW is a point heap other than ()."""
-    return points != () and makes_point_heap(points)
 
 
 def shared_points(points, other):

@@ -59,20 +59,13 @@ def is_only(row):
     return all([told in known for told in rows_beside(row)])
 
 
-def half_of(told):
-    """The row that [D2] tells of a row other than (), None where its factors can't be shared so."""
-    content = content_of(told)
-    side = isqrt(content)
-    if told != mirror(told) or side * side != content:
-        return None
+def half_of(told, side):
+    """The row that [D2] tells: side times half as often what is alike both ways, and one of each pair as often."""
     atoms = atoms_in(told)
-    middle, pairs = middle_in(atoms), pairs_in(atoms)
-    if any([often % 2 == 1 for _, often in middle]) or any([many != more for _, _, many, more in pairs]):
-        return None
     half = ((0, side),)
-    for atom, often in middle:
+    for atom, often in middle_in(atoms):
         half = product_of(half, power_of(atom, often // 2))
-    for one, _, many, _ in pairs:
+    for one, _, many, _ in pairs_in(atoms):
         half = product_of(half, power_of(one, many))
     return half
 
@@ -81,11 +74,13 @@ def one_with(told):
     """A root with these differences, None if there is none."""
     if told == ():
         return ()
-    half = half_of(told)
-    # All rows of the same factors have the same differences, but the told ones may have the other sign.
-    if half is None or gaps_in(half) != told:
+    content = content_of(told)
+    side = isqrt(content)
+    if told != mirror(told) or side * side != content:
         return None
-    return half
+    # If the factors can't be shared so, or the sign is another one, this shows it.
+    half = half_of(told, side)
+    return half if gaps_in(half) == told else None
 
 
 def all_with(told):

@@ -7,6 +7,13 @@ class Odd:
     """A value of a class that the program knows nothing of."""
 
 
+class Yes:
+    """A value that says that it is equal to each other one."""
+
+    def __eq__(self, other):
+        return True
+
+
 def nested(depth):
     """A tuple nested so deep."""
     value = ()
@@ -17,8 +24,8 @@ def nested(depth):
 
 GREAT = 10 ** 399 + 7
 NOT_TUPLES = [None, True, False, 0, -3, GREAT, "", "0 1", b"ab", [], [(0, 1)], {}, {0: 1}, set(), {(0, 1)},
-              frozenset(), range(3), Odd(), Odd, len, 2j, Ellipsis]
-NOT_WHOLE = [None, True, False, "", "1", b"1", (), (1,), [1], {}, set(), Odd(), int, 2j, nested(20)]
+              frozenset(), range(3), Odd(), Odd, Yes(), len, 2j, Ellipsis]
+NOT_WHOLE = [None, True, False, "", "1", b"1", (), (1,), [1], {}, set(), Odd(), Yes(), int, 2j, nested(20)]
 # Pairs of what is no ROW and the index that is told.
 WRONG_ROWS = [(value, None) for value in NOT_TUPLES] + [
     (tuple((p, 1) for p in range(401)), None),

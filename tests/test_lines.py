@@ -187,6 +187,13 @@ class AllPoints(unittest.TestCase):
             told = {rooted_points(times_points(a, b)) for a in (one, back_points(one)) for b in (other, back_points(other))}
             self.assertTrue(told <= set(all_points(along_points(times_points(one, other), (4, -GREAT, 1)[:letters]))))
 
+    def test_where_lesser_steps_tell_others(self):
+        # By steps of twice the spread and 1, by three times the spread, the lines have two heaps more.
+        for heap in ((((0, 0), 1), ((0, 2), 1), ((1, 1), 1), ((2, 0), 2), ((2, 2), 2)),
+                     (((0, 0), 1), ((0, 2), 1), ((1, 0), 1), ((1, 2), 2), ((2, 0), 2), ((2, 2), 2))):
+            told = tuple(sorted((heap, along_points(back_points(heap), (2, 2)))))
+            self.assertEqual(all_points(heap), told)
+
     def test_few(self):
         self.assertEqual(all_points((((3, -7), 1),)), (ONE,))
         self.assertEqual(all_points(points=(((3, -7, 5), 9),)), ((((0, 0, 0), 9),),))

@@ -184,6 +184,10 @@ class Divided(unittest.TestCase):
                 self.assertIsNone(divided_points(by_number(ONE[letters], 6), points))
         self.assertEqual(divided_points(by_number(HOOK, 6), (((1, -4), -3),)), along_points(by_number(HOOK, -2), (-1, 4)))
         self.assertIsNone(divided_points(by_number(HOOK, 6), (((1, -4), 4),)))
+        # Divisors that are wider, even where their lines by narrow steps are nought.
+        self.assertIsNone(divided_points(ONE[2], (((0, 1), 1), ((1, 0), -1))))
+        self.assertIsNone(divided_points((((0, 0), 1), ((1, 0), 1)), (((0, 3), 1), ((1, 0), -1))))
+        self.assertIsNone(divided_points((((0, 0, 0), 1), ((0, 0, 1), 1)), (((0, 1, 0), 1), ((1, 0, 0), -1))))
 
     def test_lines_divide_where_points_do_not(self):
         # On each line by a step from 1 to 60 the one divides the other, since 1 + x divides 1 + x^STEP or so.

@@ -180,6 +180,10 @@ class ManyAndLong(unittest.TestCase):
             row = self.lots(numbers)
             for call in (all_rows, all_heaps, is_only):
                 wanted(self, TooMany, lambda call=call: call(row))
+        # Alike ones and mirrored ones count together: 15 times 14, 20 times 10.
+        mixed = times(self.lots((9, 4)), back(self.lots((5, 9))))
+        wanted(self, TooMany, lambda: all_rows(mixed))
+        self.assertEqual(len(all_rows(times(self.lots((9, 2)), back(self.lots((10, 7)))))), 200)
         row = self.lots((6, 1, 1, 1, 1, 1))
         told = gaps(row)
         for call in (rows_with, heaps_with):
