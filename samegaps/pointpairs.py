@@ -1,6 +1,6 @@
 """Sums and products of point rows, with any number of pairs, that are known to be point rows."""
 
-from samegaps.pairs import mirror, multiple_of, row_of, sum_of
+from samegaps.pairs import multiple_of, row_of
 
 
 def letters_of(points):
@@ -62,8 +62,7 @@ def points_root(points):
 
 def spreads_of(points):
     """The greatest difference of two POINTs at each letter, () for ()."""
-    letters = range(letters_of(points))
-    columns = [[point[at] for point, _ in points] for at in letters]
+    columns = [[point[at] for point, _ in points] for at in range(letters_of(points))]
     return tuple([max(column) - min(column) for column in columns])
 
 
