@@ -100,7 +100,7 @@ def shared_at_corner(one, other):
     if letters_of(one) == 1:
         return of_one_letter(one, other)
     content = gcd(content_of(one), content_of(other))
-    number = min(number_beyond(one), number_beyond(other))
+    number = max(number_beyond(one), number_beyond(other))
     while True:
         value = shared_at_corner(one_letter_less(one, number), one_letter_less(other, number))
         told = one_letter_more(value, number)

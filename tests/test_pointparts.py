@@ -151,6 +151,24 @@ class Common(unittest.TestCase):
             self.assertEqual(common_points(other, one), ONE[2])
 
 
+    def test_small_beside_great(self):
+        # The one has but a POINT, the other one is nought where letters are alike, or stand in some other way.
+        for letters in (2, 3):
+            for weight in (-1, 1, 6, GREAT):
+                small = (((4,) * letters, weight),)
+                for at in range(letters - 1):
+                    low, high = [tuple(int(k == far) for k in range(letters)) for far in (at + 1, at)]
+                    for share in (1, -1, 2 ** 41 + 1, (6 << 41) + 1, (6 << 42) + 1, GREAT):
+                        other = times_points(((low, -share), (high, 1)), ((low, 2), (high, 3)))
+                        self.assertEqual(common_points(small, other), ONE[letters])
+                        self.assertEqual(common_points(by_number(other, 2 * weight), small),
+                                         by_number(ONE[letters], abs(weight)))
+        one = (((1, 1, 1), -1), ((1, 1, 2), -1), ((1, 2, 0), 1), ((1, 2, 1), 1), ((2, 0, 2), -1), ((2, 1, 1), 2),
+               ((2, 2, 0), -1))
+        self.assertEqual(common_points(one, (((0, 0, 0), -1),)), ONE[3])
+        self.assertEqual(common_points(times_points(one, PARTS[3][0]), PARTS[3][0]), PARTS[3][0])
+
+
 class Divided(unittest.TestCase):
     def test_products(self):
         rng = dice(94)
