@@ -235,3 +235,29 @@ def apart_round(n, lot):
     """The differences round, each pair of places by itself."""
     told = [(a - b) % n for a in lot for b in lot]
     return tuple(told.count(d) for d in range(n))
+
+
+# Pairs of what are no MARKS and the index that is told.
+WRONG_MARKS = [(value, None) for value in NOT_TUPLES] + [
+    (tuple(range(61)), None), ((0,) * 61, None), ((None,) * 61, None), ((None,), 0), ((True,), 0), (("0",), 0),
+    ((b"0",), 0), (((0,),), 0), (([0],), 0), ((Odd(),), 0), ((2j,), 0), (nested(20), 0), ((0, 0), 1), ((1, 0), 1),
+    ((0, True), 1), ((0, None), 1), ((0, nested(19)), 1), ((-5, -5, None), 1), ((2, 5, 4, None), 2),
+    ((-GREAT, GREAT, GREAT), 2), (tuple(range(59)) + (58,), 59),
+]
+
+
+def refuses_wrong_marks(test, error, call):
+    """The call, of one argument, refuses all that are no MARKS with the told index."""
+    for value, index in WRONG_MARKS:
+        wanted(test, error, lambda value=value: call(value), index=index)
+
+
+def prime_marks(prime):
+    """The ruler of [F7]."""
+    return tuple(2 * prime * k + k * k % prime for k in range(prime))
+
+
+def are_ruler(marks):
+    """Whether the marks are unlike and no two pairs of them have one length, by counting."""
+    told = [abs(a - b) for at, a in enumerate(marks) for b in marks[:at]]
+    return 0 not in told and len(set(told)) == len(told)

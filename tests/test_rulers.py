@@ -7,15 +7,8 @@ from samegaps.errors import InvalidMarks, InvalidNumber, InvalidRow, NotPlain
 from samegaps.gaps import differences
 from samegaps.rows import is_plain
 from samegaps.rulers import gaps_of, is_complete, is_ruler, measured, missing, places_of, plain_row, ruler_part, twice
-from samples import FOUR_HUNDRED, GREAT, NOT_TUPLES, NOT_WHOLE, Odd, RULER, along, back, by_number, dice, nested
-from samples import refuses_wrong_rows, small_primes, times, wanted
-
-WRONG_MARKS = [(value, None) for value in NOT_TUPLES] + [
-    (tuple(range(61)), None), ((0,) * 61, None), ((None,) * 61, None), ((None,), 0), ((True,), 0), (("0",), 0),
-    ((b"0",), 0), (((0,),), 0), (([0],), 0), ((Odd(),), 0), ((2j,), 0), (nested(20), 0), ((0, 0), 1), ((1, 0), 1),
-    ((0, True), 1), ((0, None), 1), ((0, nested(19)), 1), ((-5, -5, None), 1), ((2, 5, 4, None), 2),
-    ((-GREAT, GREAT, GREAT), 2), (tuple(range(59)) + (58,), 59),
-]
+from samples import FOUR_HUNDRED, GREAT, NOT_WHOLE, RULER, along, back, by_number, dice, prime_marks
+from samples import refuses_wrong_marks, refuses_wrong_rows, small_primes, times, wanted
 
 
 def pairs(marks):
@@ -24,11 +17,6 @@ def pairs(marks):
     for low, high in combinations(marks, 2):
         found.setdefault(high - low, []).append((low, high))
     return found
-
-
-def prime_marks(prime):
-    """The ruler of [F7]."""
-    return tuple(2 * prime * k + k * k % prime for k in range(prime))
 
 
 def some_marks():
@@ -197,8 +185,7 @@ class Refusals(unittest.TestCase):
     def test_marks(self):
         for call in (plain_row, gaps_of, measured, is_ruler, twice, is_complete, ruler_part,
                      lambda marks: missing(marks, 5), lambda marks: missing(marks, None)):
-            for value, index in WRONG_MARKS:
-                wanted(self, InvalidMarks, lambda call=call, value=value: call(value), index=index)
+            refuses_wrong_marks(self, InvalidMarks, call)
 
     def test_most(self):
         for value in NOT_WHOLE + [-1, 4001, GREAT, -GREAT]:
