@@ -80,11 +80,14 @@ def atom_paper(core):
     """A paper that the core is an atom, None if it is none."""
     need_core(core)
     need_short(core)
-    if not is_one_atom(core):
-        return None
-    paper = paper_of_step(core)
+    return paper_of_atom(core) if is_one_atom(core) else None
+
+
+def paper_of_atom(atom):
+    """A paper for what is known to be an atom."""
+    paper = paper_of_step(atom)
     if paper is None:
-        paper = paper_of_primes(core)
+        paper = paper_of_primes(atom)
     return () if paper is None else paper
 
 

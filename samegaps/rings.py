@@ -14,9 +14,14 @@ def is_place(value, n):
     return is_whole(value) and 0 <= value < n
 
 
+def is_ring(value, most):
+    """Whether the value, whatever it is, is a whole number from 1 to most."""
+    return is_whole(value) and 1 <= value <= most
+
+
 def need_ring(n, most):
     """Refuses what is no whole number from 1 to most."""
-    if not is_whole(n) or n < 1 or n > most:
+    if not is_ring(n, most):
         raise InvalidWhole(n)
 
 
@@ -26,6 +31,11 @@ def first_wrong_place(n, values):
         if not is_place(value, n) or (at > 0 and value <= values[at - 1]):
             return at
     return None
+
+
+def is_lot(n, value):
+    """Whether the value, whatever it is, is a lot of the ring."""
+    return isinstance(value, tuple) and first_wrong_place(n, value) is None
 
 
 def need_lot(n, lot):

@@ -16,6 +16,11 @@ def first_wrong_mark(values):
     return None
 
 
+def are_marks(value):
+    """Whether the value, whatever it is, are MARKS."""
+    return isinstance(value, tuple) and len(value) <= MOST_MARKS and first_wrong_mark(value) is None
+
+
 def need_marks(marks):
     """Refuses what are no MARKS."""
     if not isinstance(marks, tuple) or len(marks) > MOST_MARKS:

@@ -59,9 +59,8 @@ def is_only(row):
     return all([told in known for told in rows_beside(row)])
 
 
-def half_of(told, side):
+def half_of(atoms, side):
     """The row that [D2] tells: side times half as often what is alike both ways, and one of each pair as often."""
-    atoms = atoms_in(told)
     half = ((0, side),)
     for atom, often in middle_in(atoms):
         half = product_of(half, power_of(atom, often // 2))
@@ -79,7 +78,7 @@ def one_with(told):
     if told != mirror(told) or side * side != content:
         return None
     # If the factors can't be shared so, or the sign is another one, this shows it.
-    half = half_of(told, side)
+    half = half_of(atoms_in(told), side)
     return half if gaps_in(half) == told else None
 
 

@@ -34,6 +34,11 @@ def first_wrong_length(values):
     return None
 
 
+def are_lengths(value):
+    """Whether the value, whatever it is, are LENGTHS."""
+    return isinstance(value, tuple) and is_let_number(len(value)) and first_wrong_length(value) is None
+
+
 def need_lengths(lengths):
     """Refuses what are no LENGTHS."""
     if not isinstance(lengths, tuple):
