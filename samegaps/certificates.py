@@ -38,13 +38,13 @@ def unlike_paper(parts):
 
 
 def divides_paper(parts):
-    """The quotient."""
+    """The quotient, if there is one."""
     by, row = parts
     return quotient_of(row, by)
 
 
 def divides_not_paper(parts):
-    """()."""
+    """(), if there is no quotient."""
     by, row = parts
     return nought_if(quotient_of(row, by) is None)
 
@@ -109,13 +109,13 @@ def somebody_paper(parts):
 
 
 def nobody_paper(parts):
-    """A parting."""
+    """A parting, which tells a row with other differences ([D2])."""
     row = parts[0]
     return parting_of(atoms_in(row)) if one_with(row) is None else None
 
 
 def all_heaps_paper(parts):
-    """The tree."""
+    """The tree of the lengths ([D5])."""
     lengths, heaps = parts
     return tree_of(lengths) if all_ends(lengths) == heaps else None
 
@@ -131,12 +131,12 @@ def other_heaps_paper(parts):
 
 
 def ruler_paper(parts):
-    """()."""
+    """(), if the marks are a ruler."""
     return nought_if(pair_twice(parts[0]) is None)
 
 
 def no_ruler_paper(parts):
-    """(LENGTH, PAIR, MORE)."""
+    """(LENGTH, PAIR, MORE), two unlike pairs of marks with this length."""
     return pair_twice(parts[0])
 
 
@@ -146,7 +146,7 @@ def is_shortest(ruler):
 
 
 def shortest_paper(parts):
-    """()."""
+    """(), if the ruler is a shortest one."""
     return nought_if(is_shortest(parts[0]))
 
 
@@ -157,7 +157,7 @@ def not_shortest_paper(parts):
 
 
 def same_round_paper(parts):
-    """()."""
+    """(), if the differences round are the same."""
     n, lot, mate = parts
     return nought_if(gaps_round(n, lot) == gaps_round(n, mate))
 
@@ -176,7 +176,7 @@ def alike_round_paper(parts):
 
 
 def not_alike_round_paper(parts):
-    """()."""
+    """(), if no way leads from one lot to the other."""
     n, lot, mate = parts
     return nought_if(how_alike(n, lot, mate) is None)
 
@@ -214,8 +214,8 @@ PAPERS = {
 def paper_for(claim):
     """A paper for the claim, None if it is not true."""
     need_claim(claim)
-    paper = PAPERS[claim[0]]
-    return paper(claim[1:])
+    write = PAPERS[claim[0]]
+    return write(claim[1:])
 
 
 def settled(claim):

@@ -60,7 +60,7 @@ def shows_divides(parts, paper):
 
 
 def shows_divides_not(parts, paper):
-    """()."""
+    """(), if there is no quotient."""
     by, row = parts
     return is_nought(paper) and not does_divide(by, row)
 
@@ -82,6 +82,7 @@ def shows_not_common(parts, paper):
     row, other, divisor = parts
     if is_nought(paper):
         return not does_divide(divisor, row) or not does_divide(divisor, other)
+    # By a lesser step the claim's rows may be too wide, too: then no short walk tells what divides them.
     if not makes_row(paper) or are_too_wide((paper, *parts)):
         return False
     return does_divide(paper, row) and does_divide(paper, other) and not does_divide(paper, divisor)
@@ -144,7 +145,7 @@ def shows_other_heaps(parts, paper):
 
 
 def shows_ruler(parts, paper):
-    """()."""
+    """(), if the marks are a ruler."""
     return is_nought(paper) and pair_twice(parts[0]) is None
 
 
@@ -164,7 +165,7 @@ def shows_no_ruler(parts, paper):
 
 
 def shows_shortest(parts, paper):
-    """()."""
+    """(), if the search finds no lesser spread."""
     ruler = parts[0]
     return is_nought(paper) and ruler[-1] - ruler[0] == least_length(len(ruler))
 
@@ -178,7 +179,7 @@ def shows_not_shortest(parts, paper):
 
 
 def shows_same_round(parts, paper):
-    """()."""
+    """(), if the differences round are the same."""
     n, lot, mate = parts
     return is_nought(paper) and gaps_round(n, lot) == gaps_round(n, mate)
 
@@ -199,7 +200,7 @@ def shows_alike_round(parts, paper):
 
 
 def shows_not_alike_round(parts, paper):
-    """()."""
+    """(), if the lots are of unlike classes."""
     n, lot, mate = parts
     return is_nought(paper) and least_of_class(n, lot) != least_of_class(n, mate)
 

@@ -7,7 +7,7 @@ from claimsamples import CUBES, FLAT, ONE, PARTS, TWO, UP, claims_of, other_pape
 from samegaps.certificates import paper_for
 from samegaps.checker import accepts
 from samegaps.claims import is_claim
-from samples import GREAT, NOT_TUPLES, Odd, Yes, nested
+from samples import GREAT, NOT_TUPLES, Odd, Yes, by_number, nested, times
 
 ODD = NOT_TUPLES + [(), (None,), (True,), (Odd(),), (Yes(),), (Yes(), Yes()), ("same",), ("heap",), (1, 2, 3), ((0, 1),), nested(20),
                     (nested(19), nested(19)), ([],), ((), ()), (((),), ()), ((Yes(), 1),), ((0, Yes()),), "heap", b"heap",
@@ -186,6 +186,37 @@ class Odds(unittest.TestCase):
         for paper in papers:
             self.assertIs(accepts(("all heaps", (), (((0, 1),),)), paper), False)
             self.assertIs(accepts(paper, paper), False)
+
+    def test_contents(self):
+        # X V and Y W make one pair, but 2 divides both V and W: so DIVISOR is not the greatest one.
+        for number in (2, GREAT):
+            v, w = ((0, 2 * number),), ((9, -3 * number),)
+            for x, y in ((((0, 1),), ()), ((), ((-9, 1),)), (((0, 1),), ((-9, 1),))):
+                self.assertIs(accepts(("common", v, w, ((0, 1),)), (v, w, x, y)), False)
+                self.assertIs(accepts(("common", v, w, ((0, number),)), (((0, 2),), ((9, -3),), x, y)), True)
+            double = by_number(UP, number)
+            paper = (by_number(((0, 1), (1, -1)), number), by_number(((0, 2), (1, -2), (2, 2)), number), ((1, 2),), ((0, 1),))
+            self.assertIs(accepts(("common", by_number(FLAT, number), by_number(CUBES, number), UP), paper), False)
+            paper = (((0, 1), (1, -1)), ((0, 2), (1, -2), (2, 2)), ((1, 2),), ((0, 1),))
+            self.assertIs(accepts(("common", by_number(FLAT, number), by_number(CUBES, number), double), paper), True)
+
+    def test_how_often_atoms_are_told(self):
+        core, other = ((0, 1), (1, 2)), ((0, 1), (1, 3))
+        twice = times(times(core, core), UP)
+        parts = tuple((atom, many, ()) for atom, many in sorted(((core, 2), (UP, 1))))
+        claim = ("nobody", twice)
+        self.assertIs(accepts(claim, parts), True)
+        # Told in two triples, in any order, with an ATOM that is there no times, or less than that.
+        for told in (((core, 1), (core, 1), (UP, 1)), ((core, 2), (UP, 1), (other, 0)), ((core, 2), (UP, 2), (other, -1)),
+                     ((core, 3), (UP, 1), (other, -1)), ((core, 2),), ((core, 2), (UP, True)), ((core, 1), (UP, 1)),
+                     ((core, 2), (UP, 1), (UP, 0)), ((times(core, core), 1), (UP, 1)), ((core, 1), (times(core, UP), 1))):
+            triples = tuple((atom, many, ()) for atom, many in told)
+            for paper in (tuple(sorted(triples)), triples, triples[::-1]):
+                self.assertIs(accepts(claim, paper), False, paper)
+        self.assertIs(accepts(claim, parts[::-1]), False)
+        self.assertIs(accepts(("only", UP), ((UP, 1, ()), (other, 0, ()))), False)
+        self.assertIs(accepts(("only", ((0, 5),)), ()), True)
+        self.assertIs(accepts(("only", ((0, 5),)), ((UP, 0, ()),)), False)
 
     def test_step_of_the_paper(self):
         # 1 + x divides both, but with it all are too wide: by the step 1 spreads of 120 are.
